@@ -1,0 +1,1 @@
+"""Earlyfields: whether a class that nobody has written yet can see an object half built."""

@@ -1,0 +1,44 @@
+"""The examples of the document that use only errors, texts and families."""
+
+from earlyfields.errors import BadText, NoOrder, NotLawful
+from earlyfields.families import Family
+from earlyfields.texts import read_steps, write_steps
+from tests.helpers import Case
+
+
+class ExamplesTest(Case):
+    def test_read_steps(self):
+        self.assertEqual(read_steps("set a; if b { } else { call m; fail; }"),
+                         (("set", "a"), ("if", "b", (), (("call", "m"), ("fail",)))))
+
+    def test_read_steps_of_a_text_that_ends_too_early(self):
+        self.fails(lambda: read_steps("set a"), BadText, at=5)
+
+    def test_write_steps(self):
+        self.assertEqual(write_steps((("loop", (("keep", "a"),)), ("super",))), "loop { keep a; } super;")
+
+    def test_the_canonical_text(self):
+        self.assertEqual(str(Family("class A{final method m{look a;}promise init:b,a;value c;}")),
+                         "class A { value c; promise init: a, b; final method m { look a; } }")
+
+    def test_an_order(self):
+        family = Family("class A { } class B(A) { } class C(A) { } class D(B, C) { }")
+        self.assertEqual(family.order("D"), ("D", "B", "C", "A"))
+
+    def test_no_order(self):
+        self.fails(lambda: Family("class A { } class B(A) { } class C(A, B) { }"), NoOrder, name="C")
+
+    def test_not_lawful(self):
+        family = Family("class A { init { super; set a; } method m { look a; } }")
+        self.fails(lambda: family.extended("class H { init { call m; } }"), NotLawful, owner="H", key="init", path=())
+
+    def test_the_order_in_point_18(self):
+        family = Family("class A { init { super; set a; } method m { look a; } }")
+        wide = family.extended("class H { init { super; call m; } } class J(A, H) { }")
+        self.assertEqual(wide.order("J"), ("J", "A", "H"))
+        self.assertEqual(wide.old_order("J"), ("A",))
+
+    def test_the_path_in_point_5(self):
+        text = "set a; if b { } else { call m; fail; }"
+        self.fails(lambda: Family("class A { }").extended("class H { method m { " + text.replace("fail", "keep a") + " } }"),
+                   NotLawful, owner="H", key="method m", path=(1, 1, 1))
