@@ -257,6 +257,62 @@ def classes(tree):
             yield node, "L26 an attribute that is not called so: " + node.attr
 
 
+def property_of(function):
+    """The name of the property whose getter or setter a method is, or None."""
+    for row in function.decorator_list:
+        if ast.unparse(row) in ("property", function.name + ".setter"):
+            return function.name
+    return None
+
+
+def properties(tree):
+    """L5 Properties: their parameters, and that reading one changes nothing."""
+    for node in functions_in(tree):
+        if property_of(node) is None:
+            continue
+        setter = isinstance(node.decorator_list[0], ast.Attribute)
+        if len(node.decorator_list) != 1 or len(parameters_of(node)) != 1 + setter or node.args.defaults:
+            yield node, "L5 a property with other parameters or decorators"
+        for row in ast.walk(node):
+            if not setter and isinstance(row, (ast.Attribute, ast.Subscript)) and isinstance(row.ctx, (ast.Store, ast.Del)):
+                yield node, "L5 a property that changes something"
+
+
+def supers(tree):
+    """L5: `super()` stands only as `super().told(..)` in a method of a class."""
+    good = set()
+    for holder in classes_in(tree):
+        for method in holder.body:
+            for node in ast.walk(method) if isinstance(method, ast.FunctionDef) and not method.decorator_list else ():
+                if isinstance(node, ast.Call) and isinstance(node.func, ast.Attribute) and isinstance(node.func.value, ast.Call):
+                    word = node.func.attr
+                    if not word.startswith("__") or word == method.name == "__init__":
+                        good.add(node.func.value.func)
+    for node in ast.walk(tree):
+        if isinstance(node, ast.Name) and node.id == "super" and node not in good:
+            yield node, "L5 super in another form"
+        elif isinstance(node, ast.Call) and isinstance(node.func, ast.Name) and node.func.id == "super" and (node.args or node.keywords):
+            yield node, "L5 super in another form"
+
+
+def generators(tree):
+    """L23: where a `yield` stands, and what else a generator may not have."""
+    for function in functions_in(tree):
+        yields = [node for node in ast.walk(function) if isinstance(node, (ast.Yield, ast.YieldFrom))]
+        if not yields:
+            continue
+        if function.name.startswith("__") or function.decorator_list or function.name in METHODS:
+            yield function, "L23 a generator that may be none"
+        plain = [node.value for node in ast.walk(function) if isinstance(node, ast.Expr)]
+        if any(node not in plain for node in yields):
+            yield function, "L23 a yield that is no statement of its own"
+        for node in ast.walk(function):
+            if isinstance(node, ast.Return) and node.value is not None:
+                yield node, "L23 a generator that returns something"
+            if isinstance(node, (ast.Try, ast.With)) and any(row in yields for row in ast.walk(node)):
+                yield node, "L23 a yield under a try or a with"
+
+
 def errors(tree):
     """L19: how errors are raised and caught."""
     for node in ast.walk(tree):
@@ -324,7 +380,7 @@ def complaints(source, own=frozenset()):
     """All complaints about the source of a file, each with its line; own are the names of the package's methods."""
     rows = list(text(source))
     tree = ast.parse(source)
-    for check in (imports, module_level, statements, functions, names_used, classes, errors):
+    for check in (imports, module_level, statements, functions, names_used, classes, properties, supers, generators, errors):
         rows += [(getattr(node, "lineno", 1), why) for node, why in check(tree)]
     rows += [(node.lineno, why) for node, why in calls(tree, set(own))]
     return sorted(rows)

@@ -1,8 +1,12 @@
-"""The examples of the document that use only errors, texts and families."""
+"""The examples of the document for what has landed."""
 
-from earlyfields.errors import BadText, NoOrder, NotLawful
+from earlyfields.engine import Maker
+from earlyfields.errors import BadText, Gap, NoOrder, NotLawful
 from earlyfields.families import Family
+from earlyfields.orders import old_orders
+from earlyfields.stories import tell
 from earlyfields.texts import read_steps, write_steps
+from earlyfields.watchers import Report
 from tests.helpers import Case
 
 
@@ -42,3 +46,30 @@ class ExamplesTest(Case):
         text = "set a; if b { } else { call m; fail; }"
         self.fails(lambda: Family("class A { }").extended("class H { method m { " + text.replace("fail", "keep a") + " } }"),
                    NotLawful, owner="H", key="method m", path=(1, 1, 1))
+
+    def test_a_gap(self):
+        family = Family("class A { init { super; set a; } method m { look a; } }")
+        wide = family.extended("class H { init { super; call m; } } class J(A, H) { }")
+        self.fails(lambda: Maker(wide).make("J"), Gap, name="a", owner="A", key="method m", path=(0,))
+
+    def test_a_run(self):
+        family = Family("class A { init { super; set a; } method m { look a; } }")
+        wide = family.extended("class H { init { super; call m; } } class J(A, H) { }")
+        run = tell(wide, [("make", "J")])
+        self.assertEqual([run.outcome, run.at, run.steps, run.old_steps(["A"])], ["gap", 0, 4, 2])
+
+    def test_a_report(self):
+        maker = Maker(Family("class A { init { super; set a; } }"))
+        report = Report()
+        maker.watch(report)
+        maker.make("A")
+        self.assertEqual(str(report), "set         1\nsuper       1")
+
+    def test_old_orders(self):
+        self.assertEqual(old_orders(Family("class A { } class B { }")), [(), ("A",), ("A", "B"), ("B",), ("B", "A")])
+
+    def test_point_18(self):
+        family = Family("class A { init { set a; super; } method m { look a; } }")
+        wide = family.extended("class H { init { super; call m; } } class J(A, H) { }")
+        run = tell(wide, [("make", "J"), ("call", "m")])
+        self.assertEqual((run.outcome, run.own), ("done", ("a",)))

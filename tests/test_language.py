@@ -19,6 +19,20 @@ INTERFACE = {
                "NotLawful", "BadKey", "BadName", "BadOrder", "BadDeed", "BadLimit", "Far", "Gap", "Long", "NoObject", "NoEnd"),
     "texts": ("is_word", "is_key", "read_steps", "write_steps"),
     "families": ("Family", "Extension"),
+    "orders": ("old_orders", "is_old_order", "heir_of"),
+    "watchers": ("Watcher", "Tally", "Places", "Report"),
+    "engine": ("Maker",),
+    "stories": ("tell", "is_lawful", "Run"),
+}
+
+# The methods and properties that the interface lists for classes.
+LISTED = {
+    "Family": ("of", "order", "bases", "birth", "class_values", "own_keys", "grade", "body", "found", "after", "promise", "all_keys",
+               "promised", "__len__", "__contains__", "__str__", "__eq__", "extended"),
+    "Extension": ("old_order", "heir_text"),
+    "Watcher": ("note",), "Tally": ("note", "count_of", "__str__"), "Places": ("note", "listed"), "Report": ("note",),
+    "Maker": ("limit", "change", "watch", "make", "use", "current_shared", "current_own", "current_class", "event_count", "walk"),
+    "Run": ("old_steps",),
 }
 
 # Sources that break a rule, with the rule.
@@ -44,6 +58,14 @@ BROKEN = (
     ("class A:\n    def encode(self):\n        return 1\n", "L26"), ("A = 'a %'\n", "L27"), ("A = 'a\\x41'\n", "L27"),
     ("A = '__odd__'\n", "L27"), ("def f(a, b):\n    return a ** b\n", "L27"),
     ("class A:\n    def __init__(self):\n        return None\n", "L28"), ("class A:\n    def __len__(self):\n        return self.n\n", "L28"),
+    ("class A:\n    @property\n    def n(self):\n        self.m = 1\n        return 1\n", "L5"),
+    ("class A:\n    @property\n    def n(self):\n        self.rows[0] = 1\n        return 1\n", "L5"),
+    ("class A:\n    @property\n    def n(self, m):\n        return m\n", "L5"),
+    ("class A:\n    def f(self):\n        return super(A, self).f()\n", "L5"), ("class A:\n    def f(self):\n        return super().n\n", "L5"),
+    ("class A:\n    def f(self):\n        return super().__init__()\n", "L5"), ("def f(a):\n    return super().f()\n", "L5"),
+    ("def f(a):\n    try:\n        yield a\n    except KeyError:\n        pass\n", "L23"), ("def f(a):\n    yield a\n    return 1\n", "L23"),
+    ("def f(a):\n    b = yield a\n", "L23"), ("class A:\n    def __len__(self):\n        yield 1\n", "L23"),
+    ("class A:\n    def split(self):\n        yield 1\n", "L23"),
 )
 
 
@@ -51,6 +73,17 @@ def own_methods():
     """The names of all methods of the package."""
     return {node.name for tree in TREES.values() for holder in language.classes_in(tree)
             for node in holder.body if isinstance(node, ast.FunctionDef)}
+
+
+def properties():
+    """The names of all properties."""
+    return {language.property_of(node) for tree in TREES.values() for node in language.functions_in(tree)} - {None}
+
+
+def generators():
+    """The names of all generators."""
+    return {node.name for tree in TREES.values() for node in language.functions_in(tree)
+            if any(isinstance(row, (ast.Yield, ast.YieldFrom)) for row in ast.walk(node))}
 
 
 def stored_attributes():
@@ -108,6 +141,12 @@ class PackageTest(unittest.TestCase):
             for name in names:
                 self.assertIn(name, defined)
 
+    def test_methods_are_defined_in_the_class_itself(self):
+        bodies = {holder.name: [node.name for node in holder.body if isinstance(node, ast.FunctionDef)]
+                  for tree in TREES.values() for holder in language.classes_in(tree)}
+        for name, methods in LISTED.items():
+            self.assertLessEqual(set(methods), set(bodies[name]), name)
+
     def test_names_are_imported_from_the_file_that_defines_them(self):
         for stem in TREES:
             for source, names in imported_files(stem):
@@ -130,12 +169,35 @@ class PackageTest(unittest.TestCase):
             done.update(ready)
 
     def test_attributes_that_are_read_are_assigned(self):
-        known = stored_attributes() | own_methods() | class_values() | language.METHODS
+        known = stored_attributes() | own_methods() | class_values() | language.METHODS | {"setter"}
         for stem, tree in TREES.items():
             for node in ast.walk(tree):
                 if isinstance(node, ast.Attribute):
                     self.assertIn(node.attr, known, stem)
 
     def test_no_name_is_a_method_and_an_attribute(self):
-        self.assertEqual(own_methods() & stored_attributes(), set())
+        self.assertEqual(own_methods() & stored_attributes() - properties(), set())
         self.assertEqual(class_values() & (own_methods() | stored_attributes()), set())
+
+    def test_a_property_has_a_name_of_its_own(self):
+        defined = [node.name for tree in TREES.values() for node in language.functions_in(tree) if language.property_of(node) is None]
+        self.assertEqual(properties() & (set(defined) | class_values() | language.METHODS), set())
+        # The only one that is assigned, by `self.limit` in its own class.
+        self.assertEqual(properties() & stored_attributes(), {"limit"})
+
+    def test_a_generator_has_a_name_of_its_own_and_is_iterated_at_once(self):
+        defined = [node.name for tree in TREES.values() for node in language.functions_in(tree)]
+        for name in generators():
+            self.assertEqual(defined.count(name), 1)
+            used = [node for tree in TREES.values() for node in ast.walk(tree) if getattr(node, "attr", getattr(node, "id", None)) == name]
+            self.assertEqual(used, [], "until one is used, there is nothing to check")
+
+    def test_super_is_called_in_no_method_that_is_read_off_a_class(self):
+        classes = {holder.name for tree in TREES.values() for holder in language.classes_in(tree)}
+        read = {node.attr for tree in TREES.values() for node in ast.walk(tree)
+                if isinstance(node, ast.Attribute) and isinstance(node.value, ast.Name) and node.value.id in classes}
+        self.assertEqual(read & own_methods() - {"of"}, {"__init__"})
+        holders = {node.value.id for tree in TREES.values() for node in ast.walk(tree)
+                   if isinstance(node, ast.Attribute) and node.attr == "__init__" and isinstance(node.value, ast.Name)}
+        self.assertEqual(holders, {"Family"})
+        self.assertNotIn("super(", ast.unparse(TREES["families"]))
