@@ -55,7 +55,7 @@ class Machine:
         event = (frame.thing.number, frame.owner, frame.key, frame.path, step[0])
         self.events.append(event)
         self.total = self.total + 1
-        # A copy, since a watcher may do with the maker what it likes.
+        # A copy, since a watcher may add watchers.
         for watcher in list(self.watchers):
             watcher.note(event)
         return step

@@ -265,14 +265,16 @@ class WrongValuesTest(MakingCase):
 
     def test_equality(self):
         self.assertFalse(Maker(self.family) == Maker(self.family).current_own)
-        self.assertFalse(Maker(self.family) == None)  # noqa: E711
+        self.assertFalse(Maker(self.family) == "Maker")
 
 
 class WalkTest(MakingCase):
     KEEP = [(0, "A", "init", (0,), "keep")]
 
     def setUp(self):
-        self.maker = Maker(Family("class A { init { keep a; } method m { keep b; keep c; } method n { look z; } method o { call o; } method p { fail; } }"))
+        self.maker = Maker(Family("""
+            class A { init { keep a; } method m { keep b; keep c; } method n { look z; } method o { call o; } method p { fail; } }
+        """))
 
     def walked(self):
         """The events of the last call."""

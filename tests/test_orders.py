@@ -46,7 +46,8 @@ class OldOrdersTest(Case):
 
     def test_final_members(self):
         self.assertEqual(old_orders(Family("class A { final method m { } } class B { method m { } } class C { method n { } }")), [
-            (), ("A",), ("A", "B"), ("A", "B", "C"), ("A", "C"), ("A", "C", "B"), ("B",), ("B", "C"), ("C",), ("C", "A"), ("C", "A", "B"), ("C", "B")])
+            (), ("A",), ("A", "B"), ("A", "B", "C"), ("A", "C"), ("A", "C", "B"), ("B",), ("B", "C"),
+            ("C",), ("C", "A"), ("C", "A", "B"), ("C", "B")])
         self.assertEqual(old_orders(Family("class A { final init { } } class B { final init { } }")), [(), ("A",), ("B",)])
         self.assertEqual(old_orders(Family("class A { final init { super; } } class B { init { super; } }")), [(), ("A",), ("A", "B"), ("B",)])
 
@@ -136,14 +137,14 @@ class IsOldOrderTest(Case):
         self.assertIs(is_old_order(family=self.family, thing=()), True)
 
     def test_tuples_of_classes_that_are_none(self):
-        for thing in (("B",), ("A", "B"), ("A", "A"), ("B", "A", "A"), ("B", "B", "A"), ("D", "C", "B", "A"), ("D", "B", "A"), ("D",), ("B", "A", "C"),
-                      ("C", "D", "B", "A"), ("B", "C", "D", "A"), ("A",) * 2000):
+        for thing in (("B",), ("A", "B"), ("A", "A"), ("B", "A", "A"), ("B", "B", "A"), ("D", "C", "B", "A"), ("D", "B", "A"), ("D",),
+                      ("B", "A", "C"), ("C", "D", "B", "A"), ("B", "C", "D", "A"), ("A",) * 2000):
             self.assertIs(is_old_order(self.family, thing), False, thing)
 
     def test_values_of_any_kind(self):
         for thing in [value for value in STRANGE if value not in ((), ("A",))] + [
-                [], ["A"], ["B", "A"], "A", "", "BA", {"A": True}, ("A", None), (None,), (True,), (0,), ("a",), ("E",), (("A",),), ("A", ("B",)), (["A"],),
-                ("", "A"), ("A", 1), [("A",)], self.family]:
+                [], ["A"], ["B", "A"], "A", "", "BA", {"A": True}, ("A", None), (None,), (True,), (0,), ("a",), ("E",),
+                (("A",),), ("A", ("B",)), (["A"],), ("", "A"), ("A", 1), [("A",)], self.family]:
             self.assertIs(is_old_order(self.family, thing), False, thing)
 
 
@@ -172,7 +173,8 @@ class HeirOfTest(Case):
 
     def test_values_that_are_no_old_orders(self):
         family = Family(self.TEXT)
-        for value in [value for value in STRANGE if value not in ((), ("A",))] + [("B",), ("A", "B"), ["A"], ["B", "A"], ("A", "A"), ("Z",), "A", ("A", None)]:
+        for value in [value for value in STRANGE if value not in ((), ("A",))] + [
+                ("B",), ("A", "B"), ["A"], ["B", "A"], ("A", "A"), ("Z",), "A", ("A", None)]:
             self.fails(lambda: heir_of(family, value), BadOrder, value=value)
 
     def test_the_error_has_what_was_passed(self):

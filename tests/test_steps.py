@@ -260,7 +260,8 @@ class FailTest(MakingCase):
     def test_within_blocks(self):
         for block in ("if z { } else { fail; }", "either { fail; } or { }", "loop { fail; }", "try { fail; } catch { fail; }",
                       "try { if z { } else { either { } or { fail; } } } catch { fail; }"):
-            maker, result = self.made("shared s; class A { init { " + block + " keep s; } }", picks=[1] if "loop" in block or "} or { fail" in block else [])
+            picks = [1] if "loop" in block or "} or { fail" in block else []
+            maker, result = self.made("shared s; class A { init { " + block + " keep s; } }", picks=picks)
             self.assertIs(result, False)
             self.assertEqual(state_of(maker), (None, ()))
 
@@ -384,7 +385,8 @@ class ChosenByPicksTest(MakingCase):
         for step, picks in (("", [2]), ("keep z; set z; look z; read z;", [2]), ("call m; set v; read v; call q;", [2]),
                             ("make B; super; if z { } else { }", [2]), ("try { fail; } catch { }", [2]), ("try { call f; } catch { }", [2]),
                             ("either { } or { }", [2, 2]), ("loop { }", [0, 2]), ("loop { }", [1, 1, 0, 2]), ("loop { }", [1, 1, 1, -2, 2]),
-                            ("either { loop { } } or { either { } or { } }", [0, 1, 0, 2]), ("either { loop { } } or { either { } or { } }", [1, 1, 2]),
+                            ("either { loop { } } or { either { } or { } }", [0, 1, 0, 2]),
+                            ("either { loop { } } or { either { } or { } }", [1, 1, 2]),
                             ("if z { either { } or { } } else { }", [2]), ("try { } catch { either { } or { } }", [2]),
                             ("either { } or { } either { } or { } or { } either { } or { } or { }", [1, 1, 1, 2])):
             maker, result = self.made(text.replace("STEP", step), picks=picks)

@@ -69,7 +69,8 @@ class TellTest(Case):
         self.check(tell(self.family, story, limit=3), "done", 4, "keep keep keep", own=("a",))
         self.check(tell(self.family, story, limit=2), "long", 3, "keep keep")
         self.check(tell(self.family, story, limit=1), "long", 1, "keep")
-        self.check(tell(self.family, story + [("set", "x"), ("read", "a"), ("call", "q"), ("make", "D")], limit=3), "done", 8, "keep keep keep", own=())
+        story += [("set", "x"), ("read", "a"), ("call", "q"), ("make", "D")]
+        self.check(tell(self.family, story, limit=3), "done", 8, "keep keep keep", own=())
 
     def test_the_least_and_the_greatest_limit(self):
         family = Family("class A { init { loop { } } }")
@@ -81,7 +82,8 @@ class TellTest(Case):
         self.assertEqual(tell(Family("class A { init { call m; } method m { call m; } }"), [("make", "A")], limit=2000).steps, 2000)
 
     def test_deeds_without_an_object_are_left_out(self):
-        story = [("call", "gap"), ("set", "s"), ("read", "z"), ("make", "B"), ("call", "bad"), ("read", "z"), ("set", "a"), ("make", "A"), ("call", "m")]
+        story = [("call", "gap"), ("set", "s"), ("read", "z"), ("make", "B"), ("call", "bad"), ("read", "z"), ("set", "a"),
+                 ("make", "A"), ("call", "m")]
         self.check(tell(self.family, story), "done", 9, "super keep keep fail keep keep", failed=(3,), own=("a", "b"))
         self.check(tell(self.family, story[:3]), "done", 3, "")
         self.check(tell(self.family, story[:4]), "done", 4, "super keep keep fail", failed=(3,))

@@ -225,3 +225,54 @@ class WatchTest(Case):
         self.maker.watch(Collector())
         self.maker.make("A")
         self.assertEqual(rows, list(self.maker.walk()))
+
+    def test_a_walk_that_begins_as_a_step_does(self):
+        maker = self.maker
+        walks = []
+
+        class Beginner(Watcher):
+            def note(self, event):
+                walk = maker.walk()
+                next(walk)
+                walks.append(walk)
+
+        maker.watch(Beginner())
+        maker.make("A")
+        self.assertEqual([len(list(walk)) for walk in walks], [0, 1, 2, 3, 4, 5, 6, 7])
+
+    def test_a_watcher_that_adds_one(self):
+        maker = self.maker
+        added = Watcher()
+
+        class Adder(Watcher):
+            def note(self, event):
+                if event[4] == "super":
+                    maker.watch(added)
+                    maker.watch(self)
+
+        maker.watch(Adder())
+        maker.make("A")
+        self.assertEqual(added.many, 7)
+
+    def test_picks_that_are_changed_later_mean_nothing(self):
+        picks = [1, 1]
+
+        class Changer(Watcher):
+            def note(self, event):
+                picks.clear()
+
+        maker = Maker(Family("class A { init { either { keep a; } or { keep b; } either { keep c; } or { keep d; } } }"))
+        maker.watch(Changer())
+        maker.make("A", picks)
+        self.assertEqual((maker.current_own, picks), (("b", "d"), []))
+
+    def test_a_limit_that_is_changed_within_a_call_holds_for_the_next_one(self):
+        maker = self.maker
+
+        class Changer(Watcher):
+            def note(self, event):
+                maker.limit = 1
+
+        maker.watch(Changer())
+        self.assertIs(maker.make("A"), True)
+        self.assertEqual(result_of(lambda: maker.make("A")), ("long", 1))
