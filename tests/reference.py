@@ -80,10 +80,14 @@ class Reference:
                     raise Ending
                 self.left -= 1
                 self.events.append((thing.number, owner, key, path, step[0]))
+                self.note(thing, self.events[-1])
                 if step[0] != "loop" or next(self.picks, 0) % 2 == 0:
                     break
                 self.body(thing, owner, key, path + (0,), step[1])
             self.step(thing, owner, key, path, step)
+
+    def note(self, thing, event):
+        """A step begins."""
 
     def step(self, thing, owner, key, path, step):
         """A step but a loop."""

@@ -1,9 +1,15 @@
-"""The examples of the document for what has landed."""
+"""The examples of the document."""
 
+from earlyfields.ends import Ends
 from earlyfields.engine import Maker
 from earlyfields.errors import BadText, Gap, NoOrder, NotLawful
 from earlyfields.families import Family
+from earlyfields.judging import judge
+from earlyfields.makings import safe_sequences
+from earlyfields.moves import least_move
 from earlyfields.orders import old_orders
+from earlyfields.reliance import sure
+from earlyfields.seals import least_seals
 from earlyfields.stories import tell
 from earlyfields.texts import read_steps, write_steps
 from earlyfields.watchers import Report
@@ -73,3 +79,27 @@ class ExamplesTest(Case):
         wide = family.extended("class H { init { super; call m; } } class J(A, H) { }")
         run = tell(wide, [("make", "J"), ("call", "m")])
         self.assertEqual((run.outcome, run.own), ("done", ("a",)))
+
+    def test_ends(self):
+        family = Family("class A { init { either { keep a; } or { fail; } look a; } }")
+        self.assertEqual(Ends(family, "A").listed(), [("failed", ()), ("made", ("a",), ())])
+        self.assertEqual(Ends(family, "A").steps_to(("made", ("a",), ())), 3)
+
+    def test_judge(self):
+        self.assertEqual(judge(Family("class A { init { super; set a; } method m { look a; } }")).steps, 2)
+        self.assertEqual(str(judge(Family("class A { init { set a; super; } method m { look a; } }"))), "safe")
+
+    def test_sure(self):
+        result = sure(Family("class A { init { set a; call m; super; } method m { } }"), "A")
+        self.assertEqual(list(result.items()), [("init", ("a",)), ("method m", ("a",))])
+
+    def test_least_seals(self):
+        self.assertEqual(least_seals(Family("class A { init { super; set a; } method m { look a; } }")), [("init",)])
+
+    def test_least_move(self):
+        move = least_move(Family("class A { init { super; set a; } method m { look a; } }"))
+        self.assertEqual([move.changes, move.inversions], [{"A": (1, 0)}, 1])
+
+    def test_safe_sequences(self):
+        family = Family("shared s; class A { init { keep s; } } class B { init { look s; } }")
+        self.assertEqual(safe_sequences(family, ["B", "A"]), [("A", "B")])

@@ -23,6 +23,13 @@ INTERFACE = {
     "watchers": ("Watcher", "Tally", "Places", "Report"),
     "engine": ("Maker",),
     "stories": ("tell", "is_lawful", "Run"),
+    "ends": ("Ends",),
+    "judging": ("judge", "Verdict"),
+    "checking": ("is_floor", "is_derivation"),
+    "reliance": ("sure", "early"),
+    "seals": ("least_seals", "least_shows"),
+    "moves": ("moved", "least_move", "Move"),
+    "makings": ("safe_sequences", "first_safe", "Sequence"),
 }
 
 # The methods and properties that the interface lists for classes.
@@ -33,6 +40,8 @@ LISTED = {
     "Watcher": ("note",), "Tally": ("note", "count_of", "__str__"), "Places": ("note", "listed"), "Report": ("note",),
     "Maker": ("limit", "change", "watch", "make", "use", "current_shared", "current_own", "current_class", "event_count", "walk"),
     "Run": ("old_steps",),
+    "Ends": ("__len__", "__iter__", "listed", "__contains__", "steps_to", "picks_to"),
+    "Verdict": ("__bool__", "__str__"), "Move": ("__len__",), "Sequence": ("__bool__", "__len__"),
 }
 
 # Sources that break a rule, with the rule.
