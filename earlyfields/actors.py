@@ -61,9 +61,10 @@ class Common:
             kept = kept | solver.space.kept(kept, name)
         if kept != new:
             solver.push(cost, row, ACT, kept)
+        onward = (row, ACT, ACT, cost, None)
         for state in solver.space.listed_states(new):
             for member in self.entered:
-                solver.wait(member, state, (row, ACT, ACT, cost, None))
+                solver.wait(member, state, onward)
 
 
 class Actor:
@@ -120,9 +121,10 @@ class Actor:
         onward = (row, ACT, ACT, cost, None)
         # Whoever traces a way knows only a part of what all actors do, and so has to begin it in each state.
         rest = ACT if solver.retracing else REST
+        known = (row, rest, rest, cost, None)
         for state in space.listed_states(bits):
             if at == ACT:
-                solver.wait(self.world.common, state, (row, rest, rest, cost, None))
+                solver.wait(self.world.common, state, known)
             if self.behind is not None:
                 solver.wait(self.behind, state, onward)
         for name, getter, gap in self.readings:

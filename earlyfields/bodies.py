@@ -1,6 +1,6 @@
 """Members of classes in a world: what the steps of a body do to many states at once."""
 
-from earlyfields.codes import GAP, Code
+from earlyfields.codes import GAP
 from earlyfields.words import word_of
 
 PASS = 0
@@ -24,7 +24,7 @@ class Body:
         self.world = world
         self.place = place
         self.key = key
-        self.code = Code(world.model.family.body(place, key))
+        self.code = world.model.code_of(place, key)
         self.many = len(self.code.nodes)
         self.rows = {}
         self.nodes = []
@@ -95,8 +95,9 @@ class Body:
         deed, after, failed, about = self.nodes[at]
         cost = cost + 1
         if deed == ENTER:
+            waiter = (row, after, failed, cost, None)
             for state in solver.space.listed_states(new):
-                solver.wait(about, state, (row, after, failed, cost, None))
+                solver.wait(about, state, waiter)
         elif deed == KEEP:
             solver.push(cost, row, after, solver.space.kept(new, about))
         elif deed == CHOOSE:

@@ -1,4 +1,4 @@
-"""The derivation of a gap in a solved family."""
+"""The derivation of a gap to which solved lives come."""
 
 from earlyfields.actors import NOWHERE
 from earlyfields.plays import entered_on
@@ -6,38 +6,41 @@ from earlyfields.tracing import cost_of
 
 
 class Deriver:
-    """Writes rows of a derivation, each one behind those from which it follows."""
+    """Writes the rows of a derivation, each one behind those from which it follows.
+
+    indexes has the index of each pair of a row and its end that is written; gaps has the gap (name, owner, key,
+    path) to which a row comes.
+    """
 
     def __init__(self, traces):
         self.traces = traces
         self.space = traces.space
-        self.rows = []
-        self.places = {}
+        self.written_rows = []
+        self.indexes = {}
         self.gaps = {}
 
     def derive(self, row, end):
         """Writes a row with an end, and all from which it follows."""
         work = [(row, end)]
         while len(work) > 0:
-            pair = work[-1]
-            below = [other for other in entered_on(self.traces.way_to(pair[0], pair[1])) if other not in self.places]
-            if pair in self.places:
+            above, bit = work[-1]
+            below = [pair for pair in entered_on(self.traces.way_to(above, bit)) if pair not in self.indexes]
+            if (above, bit) in self.indexes:
                 work.pop()
             elif len(below) > 0:
                 work.extend(below)
             else:
-                self._write(pair[0], pair[1])
+                self._write(above, bit)
 
     def _write(self, row, end):
-        """Writes a row with an end; what stands in no row that is shown counts only as its ends do."""
+        """Writes a row with an end; what is shown in no row only counts as written."""
         member = row.role
         if end >= 2 * self.space.size:
             self.gaps[row] = self._gap_of(row, end)
-        self.places[(row, end)] = len(self.rows)
-        if member.place == NOWHERE:
-            return
-        begun = (member.world.name, member.place, member.key) + self.space.names_of(row.state)
-        self.rows.append(begun + (self._end_of(row, end), cost_of(row, end)))
+        self.indexes[(row, end)] = len(self.written_rows)
+        if member.place != NOWHERE:
+            begun = (member.world.name, member.place, member.key) + self.space.names_of(row.state)
+            self.written_rows.append(begun + (self._end_of(row, end), cost_of(row, end)))
 
     def _end_of(self, row, end):
         """An end of a row as it is written."""
@@ -47,7 +50,7 @@ class Deriver:
         return ("end" if end < size else "failed",) + self.space.names_of(end % size)
 
     def _gap_of(self, row, end):
-        """The gap (name, owner, key, path) to which a row comes."""
+        """The gap to which a row comes by itself, or with the row that it executed last."""
         way = self.traces.way_to(row, end)
         callee = way[-1][2]
         if callee is not None:
@@ -56,7 +59,8 @@ class Deriver:
 
 
 def derivation_of(traces, lives, gap):
-    """The derivation of a gap to which solved lives come."""
+    """The derivation of a gap to which the row of all lives comes."""
     deriver = Deriver(traces)
     deriver.derive(lives, gap)
-    return "seen", tuple(deriver.rows), tuple([deriver.places[pair] for pair in entered_on(traces.way_to(lives, gap))])
+    indexes = [deriver.indexes[pair] for pair in entered_on(traces.way_to(lives, gap))]
+    return "seen", tuple(deriver.written_rows), tuple(indexes)

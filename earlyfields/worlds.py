@@ -2,6 +2,7 @@
 
 from earlyfields.actors import USER, Actor, Common, Life
 from earlyfields.bodies import Body
+from earlyfields.codes import Code
 from earlyfields.spaces import Space
 from earlyfields.words import is_accessor
 
@@ -21,6 +22,15 @@ class Model:
         self.own_keys_of = {owner: family.own_keys(owner) for owner in family.classes}
         self.gaps = {}
         self.worlds = {}
+        self._codes = {}
+
+    def code_of(self, owner, key):
+        """The code of a member of a class."""
+        code = self._codes.get((owner, key))
+        if code is None:
+            code = Code(self.family.body(owner, key))
+            self._codes[(owner, key)] = code
+        return code
 
     def gap_bit(self, gap):
         """The bit of a gap (name, owner, key, path)."""

@@ -83,7 +83,7 @@ class Drawer:
     def heir_step(self, names, depth):
         """The text of a step of an heir that may read some names."""
         rng = self.rng
-        word = rng.choice(("try", "if", "either", "loop") if depth < 2 and rng.random() < 0.3 else ("super", "super", "call", "call", "set", "read", "fail"))
+        word = rng.choice(NESTED if depth < 2 and rng.random() < 0.3 else ("super", "super", "call", "call", "set", "read", "fail"))
         if word == "read" and not names:
             word = "call"
         if word in ("super", "fail"):

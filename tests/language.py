@@ -15,7 +15,8 @@ BUILTINS = set("""
 LIBRARY = {
     "heapq": {"heappush", "heappop", "heapify", "heapreplace", "heappushpop"},
     "math": {"gcd", "lcm", "isqrt", "comb", "perm", "factorial"},
-    "itertools": {"product", "combinations", "permutations", "chain", "accumulate", "pairwise", "islice", "zip_longest"},
+    # Not the products, since Ends is iterated over and has a length.
+    "itertools": {"chain", "accumulate", "pairwise", "islice", "zip_longest"},
     "collections": {"defaultdict"},
 }
 METHODS = set("""
@@ -155,6 +156,16 @@ def module_level(tree):
             yield tree, "L15 bound twice: " + name
 
 
+def library(tree):
+    """L2: a name of the library is only called, by its bare name, by position, and not at module level."""
+    names = {row.name for node in tree.body if isinstance(node, ast.ImportFrom) and node.module in LIBRARY for row in node.names}
+    good = [node.func for function in functions_in(tree) for node in ast.walk(function)
+            if isinstance(node, ast.Call) and isinstance(node.func, ast.Name) and not node.keywords]
+    for node in ast.walk(tree):
+        if isinstance(node, ast.Name) and node.id in names and node not in good:
+            yield node, "L2 a name of the library that is not only called"
+
+
 def statements(tree):
     """L6, L7, L13, L20, L21, L24: statements and expressions that are not used."""
     for node in ast.walk(tree):
@@ -168,6 +179,8 @@ def statements(tree):
             yield node, "L6 async or global"
         elif isinstance(node, (ast.Set, ast.SetComp)):
             yield node, "L24 a set, where a dict of True would do"
+        elif isinstance(node, ast.GeneratorExp):
+            yield node, "L7 a generator expression, where a list would do"
         elif isinstance(node, ast.Compare):
             for sign, side in zip(node.ops, node.comparators):
                 if isinstance(sign, (ast.Is, ast.IsNot)):
@@ -345,6 +358,8 @@ def calls(tree, own):
             yield node, "L23 not iterated at once: " + word
         if isinstance(node.func, ast.Attribute) and word in ("items", "keys", "values") and node not in good:
             yield node, "L23 not iterated at once: " + word
+        if isinstance(node.func, ast.Attribute) and word == "sort":
+            yield node, "L25 a sort where classes have lengths"
         if isinstance(node.func, ast.Attribute) and word not in METHODS | own | DUNDERS:
             yield node, "L25 a method that is not allowed: " + word
         if isinstance(node.func, ast.Name) and word in BUILTINS:
@@ -380,7 +395,7 @@ def complaints(source, own=frozenset()):
     """All complaints about the source of a file, each with its line; own are the names of the package's methods."""
     rows = list(text(source))
     tree = ast.parse(source)
-    for check in (imports, module_level, statements, functions, names_used, classes, properties, supers, generators, errors):
+    for check in (imports, library, module_level, statements, functions, names_used, classes, properties, supers, generators, errors):
         rows += [(getattr(node, "lineno", 1), why) for node, why in check(tree)]
     rows += [(node.lineno, why) for node, why in calls(tree, set(own))]
     return sorted(rows)

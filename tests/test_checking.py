@@ -88,7 +88,8 @@ class FloorTest(Case):
         user = (-1, "init", ("a",), (), (("end", ("a",), (), 0),), None)
         init = ("A", "init", (), (), (("end", ("a",), (), 1),), None)
         empty = ((), ((0, "init", (), (), (("end", (), (), 0), ("failed", (), (), 0), ("end", ("a",), (), 0), ("failed", ("a",), (), 0)), None),
-                      (-1, "init", (), (), (("end", (), (), 0), ("end", ("a",), (), 0)), None), (-1, "init", ("a",), (), (("end", ("a",), (), 0),), None)))
+                      (-1, "init", (), (), (("end", (), (), 0), ("end", ("a",), (), 0)), None),
+                      (-1, "init", ("a",), (), (("end", ("a",), (), 0),), None)))
         state = (((), 0),)
         good = ("floor", None, state, (empty, (("A",), (init, user))))
         self.floor(family, good, True)
@@ -161,7 +162,7 @@ class FloorTest(Case):
         row[4] = row[4] + (("end", ("s",), (), 4),)
         init[4] = init[4] + (("end", ("s",), (), 6),)
         self.floor(family, frozen(number, states, tables), False)
-        table += [["A", "method m", ("s",), (), (("end", ("s",), ("s",), 1),), None], ["A", "method m", ("s",), ("s",), (("end", ("s",), ("s",), 1),), None]]
+        table += [["A", "method m", ("s",), shared, (("end", ("s",), ("s",), 1),), None] for shared in ((), ("s",))]
         table += [[-1, "init", ("s",), shared, (("end", ("s",), (), 0), ("end", ("s",), ("s",), 0)), None] for shared in ((), ("s",))]
         self.floor(family, frozen(number, states, tables), True)
 
@@ -194,10 +195,12 @@ class FloorTest(Case):
                     number.__class__ is int and number >= 0 and (text == LATE or number <= 2)))
 
     def test_values_of_any_kind(self):
-        for value in STRANGE + (("floor",), ("floor", None, (), ()), ["floor", None, (), ()], ("floor", None, (((), 0),), ()), ("floor", 0, (((), 0),), ((), ())),
-                                ("floor", None, (((), 0), ((), 0)), ()), ("floor", None, [((), 0)], ()), (["floor"], None, (), ()), ((),) * 4,
-                                ("floor", None, ((("a",), 0),), ()), ("floor", None, (((), 0),), ((((), ()),),)), ("floor", None, (((), 0),), (([], ()),)),
-                                ("floor", None, (((), 0),), (((["A"],), ()),)), ("floor", None, (((), 0),), (((None,), ()),))):
+        states = (((), 0),)
+        for value in STRANGE + (("floor",), ("floor", None, (), ()), ["floor", None, (), ()], ("floor", None, states, ()),
+                                ("floor", 0, states, ((), ())), ("floor", None, states * 2, ()), ("floor", None, [((), 0)], ()),
+                                (["floor"], None, (), ()), ((),) * 4, ("floor", None, ((("a",), 0),), ()),
+                                ("floor", None, states, ((((), ()),),)), ("floor", None, states, (([], ()),)),
+                                ("floor", None, states, (((["A"],), ()),)), ("floor", None, states, (((None,), ()),))):
             self.floor(Family(EARLY), value, False)
         self.floor(Family(""), ("floor", None, (((), 0),), (((), ()),)), False)
 
@@ -268,7 +271,8 @@ class FloorTest(Case):
 
     def test_of_other_sealed_keys(self):
         family = Family(EARLY)
-        for ours, theirs, expected in (([], ["init"], False), (["init"], [], False), (["init"], ["init", "setter q"], True), (["method m"], [], False)):
+        for ours, theirs, expected in (([], ["init"], False), (["init"], [], False), (["init"], ["init", "setter q"], True),
+                                       (["method m"], [], False)):
             self.floor(family, judge(family, sealed=ours).floor, expected, theirs)
         self.assertIs(is_floor(family=family, thing=judge(family).floor, sealed=()), True)
 
@@ -294,16 +298,19 @@ class DerivationTest(Case):
         self.seen(family, ("seen", rows, (2,)), True)
         self.seen(family, ("seen", rows + rows, (5,)), True)
         self.seen(family, ("seen", (rows[0], rows[0], rows[1], rows[2]), (3,)), True)
-        for wrong in ((rows, ()), (rows, (1,)), (rows, (0,)), (rows, (3,)), (rows, (-1,)), (rows, (True,)), (rows, (2, 2)), (rows, [2]), (list(rows), (2,)),
-                      (rows, ("2",)), (rows, (None,)), (rows, ((2,),)), (rows[::-1], (0,)), (rows[1:], (1,)), ((rows[0], rows[2]), (1,)), ((), ()), ((), (0,))):
+        for wrong in ((rows, ()), (rows, (1,)), (rows, (0,)), (rows, (3,)), (rows, (-1,)), (rows, (True,)), (rows, (2, 2)),
+                      (rows, [2]), (list(rows), (2,)), (rows, ("2",)), (rows, (None,)), (rows, ((2,),)), (rows[::-1], (0,)),
+                      (rows[1:], (1,)), ((rows[0], rows[2]), (1,)), ((), ()), ((), (0,))):
             self.seen(family, ("seen",) + wrong, False)
         for index in range(3):
-            for cost, expected in ((1, False), (2, True), (3, index == 2), (0, False), (True, False), (-1, False), ("2", False), (None, False), (10 ** 29, index == 2)):
+            for cost, expected in ((1, False), (2, True), (3, index == 2), (10 ** 29, index == 2), (0, False), (True, False),
+                                   (-1, False), ("2", False), (None, False)):
                 self.seen(family, ("seen", replaced(rows, (index, 6), cost), (2,)), expected)
         # With higher costs all the way.
         self.seen(family, ("seen", tuple([row[:6] + (at + 5,) for at, row in enumerate(rows)]), (2,)), True)
-        for other in (("gap", "b", "A", "init", (True,)), ("gap", "b", "A", "init", [1]), ("gap", "b", "A", "init", (0,)), ("gap", "a", "A", "init", (1,)),
-                      ("gap", "b", 0, "init", ()), ("gap", "b", -1, "init", ()), ("gap", "b", None, "init", (1,)), ("gap", "b", "A", "init"), ("end", (), ())):
+        for other in (("gap", "b", "A", "init", (True,)), ("gap", "b", "A", "init", [1]), ("gap", "b", "A", "init", (0,)),
+                      ("gap", "a", "A", "init", (1,)), ("gap", "b", 0, "init", ()), ("gap", "b", -1, "init", ()),
+                      ("gap", "b", None, "init", (1,)), ("gap", "b", "A", "init"), ("end", (), ())):
             self.seen(family, ("seen", tuple([row[:5] + (other, 2) for row in rows]), (2,)), False)
 
     def test_gaps_in_actions_of_heirs_and_of_the_user(self):
@@ -349,7 +356,8 @@ class DerivationTest(Case):
     def test_values_of_any_kind(self):
         for value in STRANGE + (("seen",), ("seen", (), ()), ("seen", (), (0,)), ["seen", (), ()], ("seen", [], ()), (["seen"], (), ()), ((), (), ()),
                                 ("seen", ((),), (0,)), ("seen", ((None,) * 7,), (0,)), ("seen", (("A", "A", "init", (), (), (), 1),), (0,)),
-                                ("seen", ((([],), 0, "init", (), (), ("end", (), ()), 1),), (0,)), ("seen", (((), -2, "init", (), (), ("end", (), ()), 1),), (0,))):
+                                ("seen", ((([],), 0, "init", (), (), ("end", (), ()), 1),), (0,)),
+                                ("seen", (((), -2, "init", (), (), ("end", (), ()), 1),), (0,))):
             self.seen(Family(EARLY), value, False)
         self.seen(Family(EARLY), judge(Family(LATE)).floor, False)
 

@@ -254,7 +254,8 @@ class ValuesTest(Case):
                 ["failed", ("s",)], ("failed", ["s"]), ("failed", "s"), ("failed", ()), ("failed", ("s",), ()), ("failed",), ("failed", (("s",),)),
                 ("made", ("a",)), ("made", ["a"], ()), ("made", ("a",), []), ("made", (), ()), ("made", ("a",), ("s",)), ("made", ("a", "a"), ()),
                 ("gap", "z", "A", "init", [0, 2, 0]), ("gap", "z", "A", "init", (False, 2, 0)), ("gap", "z", "A", "init", (0, 2, False)),
-                ("gap", "z", "A", "init", (0, 2)), ("gap", "z", "A", "init"), ("gap", "z", None, "init", (0, 2, 0)), ("gap", "a", "A", "init", (0, 2, 0)),
+                ("gap", "z", "A", "init", (0, 2)), ("gap", "z", "A", "init"), ("gap", "z", None, "init", (0, 2, 0)),
+                ("gap", "a", "A", "init", (0, 2, 0)),
                 ["gap", "z", "A", "init", (0, 2, 0)], ("gap", "z", "A", "init", (0, 2, 0), ()), ("gap", ["z"], "A", "init", (0, 2, 0)),
                 (None, "z", "A", "init", (0, 2, 0)), ("made", None, None), (["made"], ("a",), ()), self.rows]:
             self.assertIs(value in ends, False, value)

@@ -10,7 +10,7 @@ from earlyfields.stories import is_lawful, tell
 from tests.claimed import holds, number_seen
 from tests.drawn import Drawer
 from tests.helpers import STRANGE, Case
-from tests.plain import Plain
+from tests.plain import LIFE, Plain
 
 EARLY = "class A { init { super; set a; } method m { look a; } }"
 LATE = "class A { init { set a; super; } method m { look a; } }"
@@ -195,12 +195,13 @@ class SealedTest(VerdictCase):
 
 
 class ErrorsTest(VerdictCase):
-    FIVE = "class A { value a, b, c, d, e; init { call m; call n; call p; call q; } } class B(A) { } class C(B) { } class D(C) { } class E(D) { init { %s } }"
+    FIVE = ("class A { value a, b, c, d, e; init { call m; call n; call p; call q; } } "
+            "class B(A) { } class C(B) { } class D(C) { } class E(D) { init { %s } }")
 
     def test_keys(self):
         for value in [value for value in STRANGE if value != "init"] + ["method", "method  m", "method super", "a", "getter", "Init", "method A"]:
             self.fails(lambda: judge(Family(EARLY), sealed=["init", value, None]), BadKey, key=value)
-            self.fails(lambda: judge(Family("class Z { } " * 1 + "class A { } class B { } class C { } class D { } class E { }"), sealed=(value,)), BadKey, key=value)
+            self.fails(lambda: judge(Family("class A { } class B { } class C { } class D { } class E { }"), sealed=(value,)), BadKey, key=value)
 
     def test_just_within_the_bounds(self):
         self.steps(self.FIVE % ("super; " * 196), None)
@@ -256,17 +257,54 @@ class FamilyTest(VerdictCase):
                 first.picks.append("x")
                 self.assertEqual(vars(judge(family)), vars(second))
 
+    def test_the_order_of_members_and_steps_of_a_text_means_nothing(self):
+        one = judge(Family("shared s, b; class A { method m { look a; } promise init: b, a; value c, b; init { super; set a; } }"))
+        two = judge(Family("class A { value b; init { super; set a; } promise init: a; method m { look a; } value c; promise init: b; } "
+                           "shared b; shared s;"))
+        self.assertEqual(vars(one), vars(two))
+
+    def test_floors_and_derivations_of_an_extension(self):
+        wide = Family(EARLY).extended("class H(A) { init { super; call m; } }")
+        verdict, alone = judge(wide), judge(Family(str(wide)))
+        self.assertEqual(vars(verdict), vars(alone))
+        for family in (wide, Family(str(wide))):
+            self.assertIs(is_floor(family, verdict.floor), True)
+            self.assertIs(is_derivation(family, verdict.derivation), True)
+        self.assertIs(is_floor(Family(EARLY), verdict.floor), False)
+
     def test_the_order_means_nothing(self):
         rng = random.Random(33)
         for _ in range(60):
             family = Drawer(rng, names="abc", methods="mn", looks=0.4).family(3)
             lines = [line for line in str(family).split("\n") if line.startswith("class")]
             free = [line for line in lines if "(" not in line.partition("{")[0]]
-            other = "\n".join([line for line in str(family).split("\n") if line not in lines] + free[::-1] + [line for line in lines if line not in free])
+            ahead = [line for line in str(family).split("\n") if line not in lines]
+            other = "\n".join(ahead + free[::-1] + [line for line in lines if line not in free])
             self.assertEqual(judge(Family(other)).steps, judge(family).steps)
             names = str.maketrans("abcmn", "cabnm")
             text = " ".join([word.translate(names) if len(word.rstrip(";,:")) == 1 and word.islower() else word for word in str(family).split()])
             self.assertEqual(judge(Family(text)).steps, judge(family).steps, text)
+
+
+def rows_of(floor):
+    """The rows of a floor with their costs, as those of the plain model."""
+    rows = {}
+    for world, table in floor[3]:
+        for place, key, own, shared, ends, gap in table:
+            costs = {(kind, frozenset(names), frozenset(commons)): cost for kind, names, commons, cost in ends}
+            rows[world, place, key, frozenset(own), frozenset(shared)] = costs if gap is None else {**costs, "gap": gap}
+    return rows
+
+
+def plain_rows(plain):
+    """The rows of the plain model but for those of lives, without the places of gaps."""
+    rows = {}
+    for row, ends in plain.ends.items():
+        gaps = [cost for end, cost in ends.items() if end[0] == "gap"]
+        costs = {end: cost for end, cost in ends.items() if end[0] != "gap"}
+        if row[1] != LIFE:
+            rows[row] = {**costs, "gap": min(gaps)} if gaps else costs
+    return rows
 
 
 class PlainTest(VerdictCase):
@@ -280,6 +318,7 @@ class PlainTest(VerdictCase):
             verdict, plain = self.check(family, sealed), Plain(family, sealed)
             self.assertEqual(verdict.steps, plain.gap, str(family))
             self.assertEqual({frozenset(shared): cost for shared, cost in verdict.floor[2]}, plain.lives)
+            self.assertEqual(rows_of(verdict.floor), plain_rows(plain), str(family))
             numbers.append(verdict.steps)
         self.assertTrue(numbers.count(None) > 80 and len(set(numbers)) > 5, numbers)
 

@@ -48,6 +48,8 @@ LISTED = {
 BROKEN = (
     ("import math\n", "L2"), ("from os import path\n", "L2"), ("from .texts import is_word\n", "L2"),
     ("from earlyfields.texts import *\n", "L2"), ("from math import sqrt\n", "L2"), ("from heapq import heappop as pop\n", "L2"),
+    ("from itertools import permutations\n", "L2"), ("from heapq import heappop\ndef f(a):\n    return sorted(a, key=heappop)\n", "L2"),
+    ("def f(a):\n    return any(b for b in a)\n", "L7"), ("def f(a):\n    a.sort()\n", "L25"),
     ("NORTH = 0\nfrom earlyfields.texts import is_word\n", "L2"), ("def f():\n    from earlyfields.texts import is_word\n", "L2"),
     ("A, B = 0, 1\n", "L3"), ("A = len([])\n", "L3"), ("if True:\n    A = 1\n", "L3"), ("A = 1\nA = 2\n", "L15"),
     ("def f(x=len([])):\n    return x\n", "L4"), ("@staticmethod\ndef f():\n    return 1\n", "L4"),

@@ -115,6 +115,7 @@ class LargestTest(Case):
         rows = []
         for at, name in enumerate("ABCDEFGHIJ"):
             base = "(%s)" % "ABCDEFGHIJ"[at - 1] if at else ""
-            rows.append("class %s%s { init { super; %s } }" % (name, base, "either { keep %s; } or { keep %s; } " % (NAMES[at % 5], NAMES[at // 2]) * 9))
+            choice = "either { keep %s; } or { keep %s; } " % (NAMES[at % 5], NAMES[at // 2])
+            rows.append("class %s%s { init { super; %s } }" % (name, base, choice * 9))
         sequence = Sequence(Family(" ".join(rows)), ["J", "I", "H", "J", "A"])
         self.assertIs(bool(sequence), True)

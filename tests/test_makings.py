@@ -87,13 +87,15 @@ class SequenceTest(Case):
         self.sequence(text % "", ["A", "B"], None, None)
         self.sequence(text % "", ["B", "A"], 0, 1)
         self.sequence(text % "look s;", ["A", "B"], 0, 2)
-        self.sequence("shared s; class A { init { either { make A; } or { keep s; } } } class B { init { if s { look z; } else { } } }", ["A", "B"], 1, 4)
+        last = " class B { init { if s { look z; } else { } } }"
+        self.sequence("shared s; class A { init { either { make A; } or { keep s; } } }" + last, ["A", "B"], 1, 4)
 
     def test_the_least_index(self):
         text = "shared s; class A { init { either { } or { keep a; keep a; look z; } } } class B { init { look z; } }"
         self.sequence(text, ["A", "B"], 0, 4)
         self.sequence(text, ["B", "A"], 0, 1)
-        self.sequence("shared s; class A { init { either { } or { keep a; keep s; } } } class B { init { if s { look z; } else { } } }", ["A", "A", "B"], 2, 6)
+        text = "shared s; class A { init { either { } or { keep a; keep s; } } } class B { init { if s { look z; } else { } } }"
+        self.sequence(text, ["A", "A", "B"], 2, 6)
         self.sequence("shared s; class A { init { if s { look z; } else { either { } or { keep a; keep a; keep s; } } } }", ["A", "A", "A"], 1, 7)
 
     def test_beyond_200_events(self):
@@ -110,7 +112,8 @@ class SequenceTest(Case):
         self.sequence("class A { init { if a { look z; } else { keep a; } } }", ["A", "A", "A"], None, None)
 
     def test_picks_through_several_makings(self):
-        text = ("shared s, t; class A { init { either { } or { keep s; } loop { } } } class B { init { either { } or { if s { keep t; } else { } } } } "
+        text = ("shared s, t; class A { init { either { } or { keep s; } loop { } } } "
+                "class B { init { either { } or { if s { keep t; } else { } } } } "
                 "class C { init { if t { either { } or { look z; } } else { } } }")
         sequence = self.sequence(text, ["A", "B", "C"], 2, 9)
         self.assertEqual(sequence.picks, [1, 0, 1, 1])
@@ -180,7 +183,8 @@ class SafeSequencesTest(Case):
     def test_orders_that_come_out_alike(self):
         family = Family(GIVES)
         self.assertEqual(safe_sequences(family, ["A", "A", "A"]), [("A", "A", "A")])
-        self.assertEqual(safe_sequences(family=family, classes=["B", "A", "B", "A"]), [("A", "A", "B", "B"), ("A", "B", "A", "B"), ("A", "B", "B", "A")])
+        self.assertEqual(safe_sequences(family=family, classes=["B", "A", "B", "A"]),
+                         [("A", "A", "B", "B"), ("A", "B", "A", "B"), ("A", "B", "B", "A")])
         self.assertEqual(first_safe(family=family, classes=["B", "A", "B", "A"]), ("A", "A", "B", "B"))
 
     def test_against_sequences(self):

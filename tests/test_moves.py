@@ -51,7 +51,8 @@ class MovedTest(Case):
 
     def test_no_class_with_an_init(self):
         family = Family(TWO)
-        for changes, name in (({"B": ()}, "B"), ({"Z": ()}, "Z"), ({"Z": (), "B": (), "A": None}, "B"), ({"a": (), "": (), "A": ()}, ""), ({"init": ()}, "init")):
+        for changes, name in (({"B": ()}, "B"), ({"Z": ()}, "Z"), ({"Z": (), "B": (), "A": None}, "B"), ({"init": ()}, "init"),
+                              ({"a": (), "": (), "A": ()}, "")):
             self.fails(lambda: moved(family, changes), NoClass, name=name)
 
     def test_no_permutations(self):
@@ -121,18 +122,20 @@ class LeastMoveTest(Case):
         self.move("class A { final init { look b; keep a; keep b; } }", {"A": (1, 2, 0)}, 2, 1)
         self.move("class A { final init { look b; if b { } else { keep b; } keep b; } }", {"A": (1, 0, 2)}, 1, 1)
         self.move("class A { final init { look a; keep a; keep a; } }", {"A": (1, 0, 2)}, 1, 1)
-        self.move("class A { final init { look a; keep a; } } class B { final init { keep b; look b; keep b; } }", {"A": (1, 0), "B": (0, 1, 2)}, 1, 1)
+        self.move("class A { final init { look a; keep a; } } class B { final init { keep b; look b; keep b; } }",
+                  {"A": (1, 0), "B": (0, 1, 2)}, 1, 1)
 
     def test_several_classes(self):
         self.move("class A { init { super; set a; } method m { look a; } } class B(A) { init { super; set b; } method n { look b; } }",
                   {"A": (1, 0), "B": (1, 0)}, 2, 2)
-        self.move("class B { init { super; keep b; } } class A { init { super; set a; keep q; } method m { look a; } }", {"B": (0, 1), "A": (1, 0, 2)}, 1, 1)
+        self.move("class B { init { super; keep b; } } class A { init { super; set a; keep q; } method m { look a; } }",
+                  {"B": (0, 1), "A": (1, 0, 2)}, 1, 1)
         self.move("class B { init { keep b; } } class A { init { set a; super; keep q; } method m { look a; } }", None, 0, 0)
 
     def test_24_moves_and_25(self):
         self.move("class A { init { super; super; super; set a; } method m { look a; } }", {"A": (3, 0, 1, 2)}, 3, 1)
-        self.move("class A { init { super; super; set a; } method m { look a; } } class B { init { super; super; } } class C { init { super; super; } }",
-                  {"A": (2, 0, 1), "B": (0, 1), "C": (0, 1)}, 2, 1)
+        self.move("class A { init { super; super; set a; } method m { look a; } } "
+                  "class B { init { super; super; } } class C { init { super; super; } }", {"A": (2, 0, 1), "B": (0, 1), "C": (0, 1)}, 2, 1)
         for text in ("class A { init { super; super; super; super; super; } }", "class A { init { %s } }" % ("super; " * 190),
                      "class A { init { super; super; super; super; } } class B { init { super; super; } }",
                      "class A { init { super; super; super; } } class B { init { super; super; super; } }",

@@ -61,7 +61,8 @@ class NamedTest(unittest.TestCase):
 
     def test_errors(self):
         fields = {"BadText": "at", "TooMany": "what", "Twice": "name", "NoClass": "name", "NoOrder": "name", "NotABase": "owner key path",
-                  "Final": "name key", "NotChained": "name key", "NotLawful": "owner key path", "BadKey": "key", "BadName": "name", "BadOrder": "value",
+                  "Final": "name key", "NotChained": "name key", "NotLawful": "owner key path", "BadKey": "key", "BadName": "name",
+                  "BadOrder": "value",
                   "BadDeed": "at", "BadLimit": "value", "Far": "steps", "Gap": "name owner key path", "Long": "most", "NoEnd": "end"}
         for name, words in fields.items():
             given = {word: (word,) for word in words.split()}
@@ -88,7 +89,8 @@ class NamedTest(unittest.TestCase):
 
     def test_what_is_behind_the_star_is_passed_by_name_only(self):
         for call in (lambda: judging.judge(FAMILY, ()), lambda: ends.Ends(FAMILY, "A", ()), lambda: checking.is_floor(FAMILY, None, ()),
-                     lambda: checking.is_derivation(FAMILY, None, ()), lambda: reliance.sure(FAMILY, "A", ()), lambda: reliance.early(FAMILY, "A", ()),
+                     lambda: checking.is_derivation(FAMILY, None, ()), lambda: reliance.sure(FAMILY, "A", ()),
+                     lambda: reliance.early(FAMILY, "A", ()),
                      lambda: moves.least_move(FAMILY, ())):
             with self.assertRaises(TypeError):
                 call()

@@ -73,8 +73,10 @@ class SureTest(Case):
         self.sure("class A { chained method m { fail; } init { super; } }", {"init": ()}, early_keys=["init"])
         self.sure("class A { chained method m { call m; } final init { set a; } }", {"init": ("a",)}, early_keys=[])
         self.sure("class A { chained method m { super; fail; } final init { set a; call m; } }", {}, early_keys=[])
-        self.sure("class A { chained method m { super; keep b; } final init { set a; call m; } }", {"init": ("a", "b"), "method m": ("a", "b")}, early_keys=["method m"])
-        self.sure("class A { method m { fail; } final init { set a; try { call m; } catch { } } }", {"init": ("a",), "method m": ("a",)}, early_keys=["method m"])
+        self.sure("class A { chained method m { super; keep b; } final init { set a; call m; } }",
+                  {"init": ("a", "b"), "method m": ("a", "b")}, early_keys=["method m"])
+        self.sure("class A { method m { fail; } final init { set a; try { call m; } catch { } } }",
+                  {"init": ("a",), "method m": ("a",)}, early_keys=["method m"])
         self.sure("class A { init { fail; } }", {}, early_keys=[])
 
     def test_init(self):
@@ -108,7 +110,8 @@ class SureTest(Case):
                   {"init": ("a", "s"), "method m": ("a", "s")}, early_keys=["method m"])
         self.sure("shared s; class A { final init { if s { call m; } else { fail; } } method m { } }", {"init": ("s",), "method m": ("s",)})
         self.sure("shared s; class A { value s; final init { call m; } method m { } }", {"init": ("s",), "method m": ("s",)})
-        self.sure("shared s; class A { final init { if s { } else { call m; fail; } } method m { } }", {"init": ("s",), "method m": ()}, early_keys=["method m"])
+        self.sure("shared s; class A { final init { if s { } else { call m; fail; } } method m { } }",
+                  {"init": ("s",), "method m": ()}, early_keys=["method m"])
 
     def test_sealed_keys(self):
         text = "class A { init { super; set a; } method m { } }"

@@ -39,24 +39,24 @@ class SealsTest(Case):
     def test_several_least_sets(self):
         text = "class A { final init { call m; call n; keep a; } method m { } method n { } final method p { look a; } }"
         self.seals(text, [("method m", "method n")], [("method m",), ("method n",)])
-        text = "class A { final init { call m; if b { call n; } else { } keep a; } method m { } method n { } final method p { look a; } final setter b { keep c; } }"
-        self.seals(text.replace("final setter b { keep c; }", ""), [("method m",)], [("method m",)])
-        text = "class A { final init { try { call m; keep a; } catch { call n; } keep a; } chained method m { super; } chained method n { super; } final method p { look a; } }"
+        text = "class A { final init { call m; if b { call n; } else { } keep a; } method m { } method n { } final method p { look a; } }"
         self.seals(text, [("method m",)], [("method m",)])
-        text = "class A { final init { try { call m; keep a; } catch { call n; } keep a; } final method m { call q; } method n { } method q { } final method p { if b { look a; } else { } } }"
-        self.assertEqual(self.both(text), ([("method q",)], [("method q",)]))
-        text = "shared s; class A { final init { keep b; try { call m; } catch { if a { } else { try { call n; } catch { look a; } } } keep a; } method m { } method n { } final setter a { } final method p { } }"
+        text = ("class A { final init { try { call m; keep a; } catch { call n; } keep a; } "
+                "chained method m { super; } chained method n { super; } final method p { look a; } }")
+        self.seals(text, [("method m",)], [("method m",)])
+        text = ("class A { final init { try { call m; keep a; } catch { call n; } keep a; } final method m { call q; } "
+                "method n { } method q { } final method p { if b { look a; } else { } } }")
+        self.seals(text, [("method q",)], [("method q",)])
+        text = ("class A { final init { keep b; try { call m; } catch { if a { } else { try { call n; } catch { look a; } } } keep a; } "
+                "method m { } method n { } final setter a { } }")
         self.seals(text, [("method m",), ("method n",)], [("method m", "method n")])
-
-    def both(self, text):
-        """The least sets of both kinds."""
-        return least_seals(Family(text)), least_shows(Family(text))
 
     def test_against_judging_with_each_set(self):
         rng = random.Random(61)
         kinds = []
         while len(kinds) < 150:
-            family = Drawer(rng, names=rng.choice(["a", "ab"]), methods=rng.choice(["m", "mn"]), looks=rng.choice([0.3, 0.8])).family(rng.choice([1, 2]))
+            drawer = Drawer(rng, names=rng.choice(["a", "ab"]), methods=rng.choice(["m", "mn"]), looks=rng.choice([0.3, 0.8]))
+            family = drawer.family(rng.choice([1, 2]))
             keys = family.all_keys()
             if len(keys) > 6:
                 continue
