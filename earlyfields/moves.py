@@ -18,9 +18,11 @@ class Move:
         self.changes = {owner: changes[owner] for owner in changes}
         self.family = family
         self.inversions = inversions_in(changes)
+        # Kept apart, since the dict of the attribute may be changed.
+        self._reordered = tuple([owner for owner in changes if inversions_of(changes[owner]) > 0])
 
     def __len__(self):
-        return len([owner for owner in self.changes if inversions_of(self.changes[owner]) > 0])
+        return len(self._reordered)
 
 
 def moved(family, changes):

@@ -199,6 +199,19 @@ class LeastMoveTest(Case):
         first.changes["Q"] = ()
         self.assertEqual(least_move(family).changes, {"A": (1, 0)})
 
+    def test_the_length_stays_when_the_dict_is_changed(self):
+        text = "class A { init { %s } method m { look a; } } class B(A) { init { super; set b; } }"
+        for steps, changes, many in (("super; set a;", {"A": (1, 0), "B": (0, 1)}, 1), ("set a; super;", {"A": (0, 1), "B": (0, 1)}, 0)):
+            move = least_move(Family(text % steps))
+            self.assertEqual((move.changes, len(move)), (changes, many))
+            for owner, order in (("Zz", (1, 0)), ("B", (1, 0)), ("A", (0, 1)), ("A", None)):
+                move.changes[owner] = order
+                self.assertEqual((len(move), move.inversions), (many, many))
+            del move.changes["A"]
+            self.assertEqual((len(move), move.inversions), (many, many))
+            move.changes.clear()
+            self.assertEqual((len(move), move.inversions, str(move.family)), (many, many, text.replace("} class", "}\nclass") % "set a; super;"))
+
     def test_an_extension(self):
         wide = Family("class A { init { super; set a; } method m { look a; } }").extended("class H(A) { init { super; set h; } }")
         move = least_move(wide)
